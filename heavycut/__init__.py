@@ -1,0 +1,1 @@
+"""Heavycut: heaviest cuts, with papers that none is heavier."""
