@@ -24,3 +24,12 @@ def is_number_of(many, thing):
 def are_unlike_points(many, one, other):
     """Tell whether one and other are two points of so many, not the same."""
     return is_number_of(many, one) and is_number_of(many, other) and one != other
+
+
+def is_rising_choice(many, thing):
+    """Tell whether thing is a tuple of numbers of some of so many: rising, each once, not empty."""
+    if not isinstance(thing, tuple) or len(thing) == 0:
+        return False
+    if not all([is_number_of(many, number) for number in thing]):
+        return False
+    return all([number < following for number, following in zip(thing, thing[1:])])
