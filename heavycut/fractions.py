@@ -51,7 +51,17 @@ def less(one, other):
 
 def added(terms):
     """Answer the sum of all fractions of a list or tuple."""
-    total = (0, 1)
-    for term in terms:
-        total = plus(total, term)
-    return total
+    sums = list(terms)
+    # Halves are added to halves, so that few sums have great bottoms.
+    while len(sums) > 1:
+        alone = sums[-1:] if len(sums) % 2 == 1 else []
+        sums = [plus(one, other) for one, other in zip(sums[::2], sums[1::2])] + alone
+    return sums[0] if sums else (0, 1)
+
+
+def common_bottom(terms):
+    """Answer the least int from 1 on that all bottoms of a list or tuple of fractions divide."""
+    common = 1
+    for top, bottom in terms:
+        common = common // common_divisor(common, bottom) * bottom
+    return common

@@ -33,3 +33,8 @@ def is_rising_choice(many, thing):
     if not all([is_number_of(many, number) for number in thing]):
         return False
     return all([number < following for number, following in zip(thing, thing[1:])])
+
+
+def is_named(name, length, thing):
+    """Tell whether thing, which may be anything, is a tuple of this length that begins with this name."""
+    return isinstance(thing, tuple) and len(thing) == length and isinstance(thing[0], str) and thing[0] == name

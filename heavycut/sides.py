@@ -15,6 +15,13 @@ def made_side(web, bits):
     return tuple([bit ^ bits[0] for bit in bits])
 
 
+def is_side(web, thing):
+    """Tell whether thing, which may be anything, is a side of the web."""
+    if not isinstance(thing, tuple) or len(thing) != web[0] or thing[0] != 0:
+        return False
+    return all([is_number_of(2, bit) for bit in thing])
+
+
 def is_cut(web, side, tie):
     """Tell whether the side cuts the tie of this number."""
     one, other, weight = web[1][tie]

@@ -1,7 +1,7 @@
 """Webs: tuples (many, ties) of points and of ties with weights."""
 
 from heavycut.errors import NoWeb
-from heavycut.fractions import added, is_fraction
+from heavycut.fractions import added, common_bottom, is_fraction
 from heavycut.helper import are_unlike_points, is_row, is_triple, is_whole
 
 MOST_POINTS = 60
@@ -69,3 +69,10 @@ def top_of(web):
 def whole_sum(web):
     """Answer the sum of the weights of all ties."""
     return added([weight for one, other, weight in web[1]])
+
+
+def whole_weights(web):
+    """Answer the weights of all ties times their common bottom, as a list of ints."""
+    weights = [weight for one, other, weight in web[1]]
+    scale = common_bottom(weights)
+    return [top * (scale // bottom) for top, bottom in weights]

@@ -41,3 +41,16 @@ def is_odd_ring(web, wishes, thing):
 def grouped(web, wishes):
     """Answer ("groups", groups, marks) of the wishes, or ("ring", ring) with an odd ring of them."""
     return parted(web[0], made_wishes(web, wishes))
+
+
+def with_wish(groups, marks, wish):
+    """Answer the pair (groups, marks) with one wish more, of points of two groups.
+
+    One group's number falls away, and no mark of the first point's group is turned.
+    """
+    one, other, apart = wish
+    kept, gone = groups[one], groups[other]
+    turn = marks[one] ^ marks[other] ^ apart
+    joined = tuple([kept if group == gone else group for group in groups])
+    turned = tuple([mark ^ turn if group == gone else mark for group, mark in zip(groups, marks)])
+    return (joined, turned)

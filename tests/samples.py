@@ -31,6 +31,12 @@ def as_number(fraction):
     return Fraction(fraction[0], fraction[1])
 
 
+def as_pair(number):
+    """Answer the fraction that a Fraction or int of Python's own is."""
+    number = Fraction(number)
+    return (number.numerator, number.denominator)
+
+
 def all_sides(many):
     """Answer all sides of so many points."""
     return [(0,) + bits for bits in product((0, 1), repeat=many - 1)]
@@ -38,8 +44,7 @@ def all_sides(many):
 
 def random_fraction(chance):
     """Answer a small fraction, of any sign or 0."""
-    number = Fraction(chance.randrange(-6, 7), chance.randrange(1, 5))
-    return (number.numerator, number.denominator)
+    return as_pair(Fraction(chance.randrange(-6, 7), chance.randrange(1, 5)))
 
 
 def random_web(many, most_ties, seed):
@@ -48,6 +53,11 @@ def random_web(many, most_ties, seed):
     pairs = [(one, other) for one in range(many) for other in range(one + 1, many)]
     chance.shuffle(pairs)
     return made_web(many, [(one, other, random_fraction(chance)) for one, other in pairs[:most_ties]])
+
+
+def whole_web(many, weight=(1, 1)):
+    """Answer the web of so many points that has all ties, each of this weight."""
+    return made_web(many, [(one, other, weight) for one in range(many) for other in range(one + 1, many)])
 
 
 def ring_web(many, points):
@@ -71,6 +81,144 @@ def sample_webs():
         made_web(7, [(0, 1, (1, 1)), (1, 2, (1, 1)), (0, 2, (2, 1)), (4, 5, (1, 1)), (5, 6, (3, 7)), (4, 6, (-1, 1))]),
         made_web(5, [(0, 1, (1, 1)), (1, 2, (1, 1)), (0, 2, (2, 1)), (2, 3, (1, 1)), (3, 4, (3, 7)), (2, 4, (-1, 1))]),
     ] + [random_web(many, many + 2, many) for many in range(3, 9)]
+
+
+def random_wishes(many, length, seed):
+    """Answer so many wishes of a web of many points, by its arguments alone."""
+    chance = Random(seed)
+    pairs = [chance.sample(range(many), 2) for k in range(length)]
+    return [(one, other, chance.randrange(2)) for one, other in pairs]
+
+
+def kept_wishes(many, length, seed):
+    """Answer so many wishes of a web of two points or more that some side keeps."""
+    chance = Random(seed)
+    bits = [chance.randrange(2) for point in range(many)]
+    pairs = [chance.sample(range(many), 2) for k in range(length)]
+    return [(one, other, bits[one] ^ bits[other]) for one, other in pairs]
+
+
+def is_kept(wish, side):
+    """Tell whether a side keeps one wish."""
+    return (side[wish[0]] != side[wish[1]]) == (wish[2] == 1)
+
+
+def kept_sides(many, wishes):
+    """Answer all sides of so many points that keep all wishes."""
+    return [side for side in all_sides(many) if all(is_kept(wish, side) for wish in wishes)]
+
+
+def number_of(web, side):
+    """Answer the weight of a side as a Fraction of Python's own, counted here."""
+    return sum([as_number(weight) for one, other, weight in web[1] if side[one] != side[other]], Fraction(0))
+
+
+def top_number(web):
+    """Answer the top of a web as a Fraction of Python's own, counted here."""
+    return sum([as_number(weight) for one, other, weight in web[1] if weight[0] > 0], Fraction(0))
+
+
+def most_weight(web, wishes):
+    """Answer the most that a side weighs that keeps the wishes, by all sides; None if there is none."""
+    weights = [number_of(web, side) for side in kept_sides(web[0], wishes)]
+    return max(weights) if weights else None
+
+
+def lost_by(web, side):
+    """Answer the numbers of the ties that a side loses, counted here."""
+    return [number for number, (one, other, weight) in enumerate(web[1])
+            if (side[one] != side[other]) != (weight[0] > 0)]
+
+
+def odd_rounds(web, wishes):
+    """Answer all tuples of ties of which every side that keeps the wishes loses an odd number."""
+    rows = [sum([1 << tie for tie in lost_by(web, side)]) for side in kept_sides(web[0], wishes)]
+    found = []
+    for choice in range(1, 1 << len(web[1])):
+        if all(bin(choice & row).count("1") % 2 == 1 for row in rows):
+            found.append(tuple([tie for tie in range(len(web[1])) if choice >> tie & 1]))
+    return found
+
+
+def packed_rows(web, rounds, seed, most=6):
+    """Answer rows of some of these rounds with shares that the ties' sizes allow."""
+    chance = Random(seed)
+    left = [abs(as_number(weight)) for one, other, weight in web[1]]
+    rows = []
+    for ring in [chance.choice(rounds) for k in range(most)] if rounds else []:
+        share = min([left[tie] for tie in ring]) * Fraction(chance.randrange(1, 4), 3)
+        if share > 0:
+            rows.append((ring, as_pair(share)))
+            for tie in ring:
+                left[tie] -= share
+    return tuple(rows)
+
+
+def random_turns(web, seed):
+    """Answer some turns of a web, flat or not."""
+    chance = Random(seed)
+    rows = [[] for point in range(web[0])]
+    for one, other, weight in web[1]:
+        rows[one].append(other)
+        rows[other].append(one)
+    for row in rows:
+        chance.shuffle(row)
+    return tuple([tuple(row) for row in rows])
+
+
+def places(thing):
+    """Answer the ways to all places of nested tuples, the whole first."""
+    found = [()]
+    if isinstance(thing, tuple):
+        for at, inner in enumerate(thing):
+            found += [(at,) + way for way in places(inner)]
+    return found
+
+
+def at_place(thing, way):
+    """Answer what stands at a place of nested tuples."""
+    for at in way:
+        thing = thing[at]
+    return thing
+
+
+def with_other(thing, way, other):
+    """Answer nested tuples with another thing at a place."""
+    if not way:
+        return other
+    return thing[:way[0]] + (with_other(thing[way[0]], way[1:], other),) + thing[way[0] + 1:]
+
+
+def wrong_kinds(thing):
+    """Answer nested tuples with a list for a tuple, or True, False or a float for an int, at one place each."""
+    found = []
+    for way in places(thing):
+        inner = at_place(thing, way)
+        if isinstance(inner, tuple):
+            found.append(with_other(thing, way, list(inner)))
+            found.append(with_other(thing, way, {number: each for number, each in enumerate(inner)}))
+        elif isinstance(inner, int):
+            found.append(with_other(thing, way, float(inner)))
+            found.append(with_other(thing, way, str(inner)))
+            if inner in (0, 1):
+                found.append(with_other(thing, way, bool(inner)))
+    return found
+
+
+def strange_places(thing):
+    """Answer nested tuples with each strange thing at each place."""
+    return [with_other(thing, way, strange) for way in places(thing) for strange in STRANGE]
+
+
+def other_lengths(thing):
+    """Answer nested tuples with one thing less or more (None, or the last one twice) in one tuple each."""
+    found = []
+    for way in places(thing):
+        inner = at_place(thing, way)
+        if isinstance(inner, tuple):
+            found += [with_other(thing, way, inner + extra) for extra in ((None,), inner[-1:]) if extra]
+            found += [with_other(thing, way, inner[:at] + inner[at + 1:]) for at in range(len(inner))]
+    return found
 
 
 def check_repeated(case, function, *arguments):

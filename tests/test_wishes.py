@@ -7,21 +7,9 @@ from random import Random
 from heavycut.errors import NoWishes
 from heavycut.webs import made_web
 from heavycut.wishes import grouped, is_odd_ring, keeps, made_wishes
-from samples import STRANGE, all_sides, check_repeated, ring_web, sample_webs
+from samples import STRANGE, all_sides, check_repeated, is_kept, random_wishes, ring_web, sample_webs
 
 CHAIN = [(point, point + 1, point % 2) for point in range(59)]
-
-
-def is_kept(wish, side):
-    """Tell whether a side keeps one wish."""
-    return (side[wish[0]] != side[wish[1]]) == (wish[2] == 1)
-
-
-def random_wishes(many, length, seed):
-    """Answer so many wishes of a web of many points, by its arguments alone."""
-    chance = Random(seed)
-    pairs = [chance.sample(range(many), 2) for k in range(length)]
-    return [(one, other, chance.randrange(2)) for one, other in pairs]
 
 
 def is_odd_round(many, wishes, numbers):
