@@ -42,13 +42,27 @@ def group_from(near, first):
     found = {first: (0, ())}
     waiting = [first]
     while waiting:
-        point = waiting.pop()
+        # The points that wait longest go first, so that each way has as few joins as may be.
+        point = waiting.pop(0)
         mark, way = found[point]
         for number, other, apart in near[point]:
             if other not in found:
                 found[other] = (mark ^ apart, way + (number,))
                 waiting.append(other)
     return found
+
+
+def spread(many, joins):
+    """Answer dicts (groups, marks, ways) of all points: ways are the joins from a group's first point to each."""
+    near = joins_at(many, joins)
+    groups, marks, ways = {}, {}, {}
+    count = 0
+    for first in range(many):
+        if first not in groups:
+            for point, (mark, way) in group_from(near, first).items():
+                groups[point], marks[point], ways[point] = count, mark, way
+            count += 1
+    return (groups, marks, ways)
 
 
 def ring_closed(way, other_way, number):
@@ -59,22 +73,24 @@ def ring_closed(way, other_way, number):
     return tuple(sorted(alone + other_alone + [number]))
 
 
+def odd_rings(joins, marks, ways):
+    """Answer a list of odd rings: for each join that the marks do not keep the one that it closes."""
+    rings = []
+    for number, (one, other, apart) in enumerate(joins):
+        if (marks[one] ^ marks[other]) != apart:
+            rings.append(ring_closed(ways[one], ways[other], number))
+    return rings
+
+
 def parted(many, joins):
-    """Answer ("groups", groups, marks) of the joins, or ("ring", ring) with a ring that is odd.
+    """Answer ("groups", groups, marks) of the joins, or ("ring", ring) with a ring that is odd and short.
 
     A ring is odd if an odd number of its joins say apart.
     """
-    near = joins_at(many, joins)
-    groups, marks, ways = {}, {}, {}
-    count = 0
-    for first in range(many):
-        if first not in groups:
-            for point, (mark, way) in group_from(near, first).items():
-                groups[point], marks[point], ways[point] = count, mark, way
-            count += 1
-    for number, (one, other, apart) in enumerate(joins):
-        if (marks[one] ^ marks[other]) != apart:
-            return ("ring", ring_closed(ways[one], ways[other], number))
+    groups, marks, ways = spread(many, joins)
+    rings = odd_rings(joins, marks, ways)
+    if rings:
+        return ("ring", min(rings, key=len))
     return ("groups", tuple([groups[point] for point in range(many)]), tuple([marks[point] for point in range(many)]))
 
 

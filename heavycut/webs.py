@@ -71,8 +71,17 @@ def whole_sum(web):
     return added([weight for one, other, weight in web[1]])
 
 
+def whole_scale(web):
+    """Answer the common bottom of the weights of all ties."""
+    return common_bottom([weight for one, other, weight in web[1]])
+
+
 def whole_weights(web):
     """Answer the weights of all ties times their common bottom, as a list of ints."""
-    weights = [weight for one, other, weight in web[1]]
-    scale = common_bottom(weights)
-    return [top * (scale // bottom) for top, bottom in weights]
+    scale = whole_scale(web)
+    return [top * (scale // bottom) for one, other, (top, bottom) in web[1]]
+
+
+def whole_sizes(web):
+    """Answer the sizes of all ties times their common bottom, as a list of ints."""
+    return [abs(weight) for weight in whole_weights(web)]

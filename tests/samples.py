@@ -5,6 +5,7 @@ from fractions import Fraction
 from itertools import product
 from random import Random
 
+from heavycut.turns import beside, faces_of
 from heavycut.webs import made_web
 
 DEEP_TUPLE = (1,)
@@ -164,6 +165,39 @@ def random_turns(web, seed):
     for row in rows:
         chance.shuffle(row)
     return tuple([tuple(row) for row in rows])
+
+
+def distances_between(web, turns):
+    """Answer the table of the least sums of sizes from face to face, None where no ties lead, counted here."""
+    many = len(faces_of(web, turns))
+    table = [[Fraction(0) if one == other else None for other in range(many)] for one in range(many)]
+    pairs = [(abs(as_number(tie[2])), pair) for tie, pair in zip(web[1], beside(web, turns))]
+    pairs += [(size, pair[::-1]) for size, pair in pairs]
+    for row in table:
+        ahead = None
+        while ahead != row:
+            ahead = list(row)
+            for size, (one, other) in pairs:
+                if row[one] is not None and (row[other] is None or row[one] + size < row[other]):
+                    row[other] = row[one] + size
+    return table
+
+
+def plane_web(wide, weights):
+    """Answer a web of rows of squares with slanting ties, and its turns as the points stand in the plane.
+
+    weights(number, kind) tells the weight of each tie: of the level (0), upright (1) and slanting (2) ones.
+    """
+    pairs = []
+    rows = []
+    for point in range(wide * wide):
+        x, y = point % wide, point // wide
+        near = [(x + dx, y + dy) for dx, dy in ((1, 0), (1, 1), (0, 1), (-1, 0), (-1, -1), (0, -1))]
+        rows.append(tuple([wide * b + a for a, b in near if 0 <= a < wide and 0 <= b < wide]))
+        for kind, (a, b) in ((0, near[0]), (1, near[2]), (2, near[1])):
+            if a < wide and b < wide:
+                pairs.append((point, wide * b + a, weights(len(pairs), kind)))
+    return made_web(wide * wide, pairs), tuple(rows)
 
 
 def places(thing):

@@ -9,8 +9,8 @@ from heavycut.reader import bound_of
 from heavycut.turns import beside, faces_of, odd_faces
 from heavycut.webs import made_web
 from samples import (
-    STRANGE, as_number, as_pair, check_repeated, most_weight, other_lengths, random_turns, random_web, ring_web,
-    sample_webs, strange_places, top_number, whole_web, with_other, wrong_kinds,
+    STRANGE, as_number, as_pair, check_repeated, distances_between, most_weight, other_lengths, plane_web, random_turns,
+    random_web, ring_web, sample_webs, strange_places, top_number, whole_web, with_other, wrong_kinds,
 )
 
 ONE = (1, 1)
@@ -26,20 +26,6 @@ TWO_TENTS = made_web(5, [(0, 1, (10, 1)), (0, 2, (10, 1)), (1, 2, (10, 1))] + [
     (point, top, ONE) for point in range(3) for top in (3, 4)
 ])
 TWO_TENTS_TURNS = ((1, 3, 2, 4), (2, 3, 0, 4), (0, 3, 1, 4), (0, 1, 2), (2, 1, 0))
-
-
-def distances_between(web, turns):
-    """Answer the table of the least sums of sizes from face to face, None where no ties lead, counted here."""
-    many = len(faces_of(web, turns))
-    table = [[Fraction(0) if one == other else None for other in range(many)] for one in range(many)]
-    pairs = list(zip(web[1], beside(web, turns)))
-    for turn in range(many):
-        for (a, b, weight), (one, other) in pairs + [(tie, pair[::-1]) for tie, pair in pairs]:
-            for row in table:
-                if row[one] is not None:
-                    reached = row[one] + abs(as_number(weight))
-                    row[other] = reached if row[other] is None else min(row[other], reached)
-    return table
 
 
 def made_labels(web, turns, beyond):
@@ -201,16 +187,7 @@ class TestRead(FacePapers):
             self.read(web, paper, as_pair(6 - Fraction(len(odd), 2)))
 
     def test_great_webs(self):
-        # Rows of squares with slanting ties; its turns go round as the points stand in the plane.
-        web = made_web(49, [(7 * y + x, 7 * y + x + 1, ONE) for y in range(7) for x in range(6)]
-                       + [(7 * y + x, 7 * y + x + 7, (3, 2)) for y in range(6) for x in range(7)]
-                       + [(7 * y + x, 7 * y + x + 8, (2, 1)) for y in range(6) for x in range(6)])
-        rows = []
-        for y in range(7):
-            for x in range(7):
-                near = [(x + dx, y + dy) for dx, dy in ((1, 0), (1, 1), (0, 1), (-1, 0), (-1, -1), (0, -1))]
-                rows.append(tuple([7 * b + a for a, b in near if 0 <= a < 7 and 0 <= b < 7]))
-        turns = tuple(rows)
+        web, turns = plane_web(7, lambda number, kind: (ONE, (3, 2), (2, 1))[kind])
         odd = odd_faces(web, turns)
         self.assertEqual(len(odd), 72)
         paper = ("faces", turns, made_labels(web, turns, 0), (HALF,) * 72, (((0, 1, 2), (1, 10 ** 9)),))

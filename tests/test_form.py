@@ -51,6 +51,16 @@ def defined(tree):
     return found
 
 
+def own_methods():
+    """Answer the names of all methods of the package's classes."""
+    return {node.name for name, each in nodes(ast.ClassDef) for node in each.body if isinstance(node, ast.FunctionDef)}
+
+
+def own_attributes():
+    """Answer the names of all attributes that the package assigns."""
+    return {node.attr for name, node in nodes(ast.Attribute) if isinstance(node.ctx, ast.Store)}
+
+
 def imported(tree):
     """Answer pairs of a module and a name for all imports of a file."""
     return [(node.module, alias.name) for node in tree.body if isinstance(node, ast.ImportFrom) for alias in node.names]
@@ -107,7 +117,7 @@ class TestNames(unittest.TestCase):
             self.assertEqual([word for word in stored if word in taken], [], name)
             stored += [node.name for node in ast.walk(tree) if isinstance(node, (ast.FunctionDef, ast.ClassDef))]
             self.assertEqual([word for word in stored if word in BARRED_NAMES], [], name)
-            self.assertEqual([word for word in stored if word.startswith("_")], [], name)
+            self.assertEqual([word for word in stored if word.startswith("_") and word != "__init__"], [], name)
 
     def test_builtins(self):
         for name, tree in TREES.items():
@@ -118,7 +128,23 @@ class TestNames(unittest.TestCase):
 
     def test_methods(self):
         for name, node in nodes(ast.Attribute):
-            self.assertIn(node.attr, METHODS, name)
+            self.assertIn(node.attr, METHODS | own_methods() | own_attributes(), name)
+
+    def test_own_methods_and_attributes(self):
+        taken = {word for kind in (str, bytes, int, list, tuple, dict, set) for word in dir(kind)}
+        methods, attributes = own_methods() - {"__init__"}, own_attributes()
+        self.assertEqual(methods & attributes, set())
+        self.assertEqual((methods | attributes) & taken, set())
+        self.assertEqual((methods | attributes) & (BARRED_NAMES | METHODS), set())
+
+    def test_attributes_are_set_at_first(self):
+        for name, each in nodes(ast.ClassDef):
+            first = [node for node in each.body if isinstance(node, ast.FunctionDef) and node.name == "__init__"]
+            held = {node.attr for start in first for node in ast.walk(start)
+                    if isinstance(node, ast.Attribute) and isinstance(node.ctx, ast.Store)}
+            used = {node.attr for node in ast.walk(each)
+                    if isinstance(node, ast.Attribute) and isinstance(node.value, ast.Name) and node.value.id == "self"}
+            self.assertEqual(used - held - own_methods(), set(), (name, each.name))
 
 
 class TestSteps(unittest.TestCase):

@@ -5,7 +5,7 @@ from fractions import Fraction
 from math import gcd
 from random import Random
 
-from heavycut.fractions import as_fraction, is_fraction, less, minus, plus, times
+from heavycut.fractions import added, as_fraction, common_bottom, is_fraction, less, minus, plus, times
 from samples import STRANGE, as_number, check_repeated
 
 LONG = 10 ** 400 + 267
@@ -117,6 +117,22 @@ class TestReckoning(unittest.TestCase):
         check_repeated(self, as_fraction, 4, -6)
         for thing in (([1], 2), [1, 2], (1, 2), {1: [2]}):
             check_repeated(self, is_fraction, thing)
+
+
+class TestMany(unittest.TestCase):
+    def test_added(self):
+        fractions = some_fractions()
+        for length in list(range(9)) + [len(fractions)]:
+            for kind in (list, tuple):
+                total = sum([as_number(fraction) for fraction in fractions[:length]], Fraction(0))
+                answer = check_repeated(self, added, kind(fractions[:length]))
+                self.assertEqual(repr(answer), repr((total.numerator, total.denominator)))
+
+    def test_common_bottom(self):
+        self.assertEqual(common_bottom([]), 1)
+        self.assertEqual(common_bottom([(0, 1), (5, 1)]), 1)
+        self.assertEqual(common_bottom([(1, 4), (1, 6), (-5, 9)]), 36)
+        self.assertEqual(common_bottom(((1, 999), (1, 1000))), 999000)
 
 
 if __name__ == "__main__":
