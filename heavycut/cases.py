@@ -3,7 +3,7 @@
 from heavycut.errors import TooGreat
 from heavycut.hands import bettered
 from heavycut.packing import Bundle, packed, paper_of
-from heavycut.sides import lost_ties, made_side
+from heavycut.sides import lost_ties, side_of_bits
 from heavycut.webs import whole_scale, whole_sizes
 from heavycut.wishes import grouped, with_wish
 
@@ -14,11 +14,6 @@ MOST_GROUPS_FOR_ALL = 10
 def whole_loss(web, sizes, side):
     """Answer the sizes, as ints, of all ties that a side loses, added."""
     return sum([sizes[tie] for tie in lost_ties(web, side)])
-
-
-def side_of_bits(web, groups, marks, bits):
-    """Answer the side in which the groups whose bit is 1 are turned."""
-    return made_side(web, [bits[group] ^ mark for group, mark in zip(groups, marks)])
 
 
 def net_rows(groups, nets):

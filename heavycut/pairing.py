@@ -196,7 +196,8 @@ class Forest:
     def open_all(self):
         """Take all closed rings apart, so that rows are paired with rows."""
         # A ring has a greater number than its members, so the outermost ones are opened first.
-        for knot in sorted(self.members, reverse=True):
+        knots = sorted(self.members, reverse=True)
+        for knot in knots:
             self.open_ring(knot)
 
 

@@ -15,6 +15,11 @@ def made_side(web, bits):
     return tuple([bit ^ bits[0] for bit in bits])
 
 
+def side_of_bits(web, groups, marks, bits):
+    """Answer the side in which the groups whose bit is 1 are turned."""
+    return made_side(web, [bits[group] ^ mark for group, mark in zip(groups, marks)])
+
+
 def is_side(web, thing):
     """Tell whether thing, which may be anything, is a side of the web."""
     if not isinstance(thing, tuple) or len(thing) != web[0] or thing[0] != 0:

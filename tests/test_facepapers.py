@@ -6,11 +6,12 @@ from random import Random
 
 from heavycut.facepapers import face_bound
 from heavycut.reader import bound_of
-from heavycut.turns import beside, faces_of, odd_faces
+from heavycut.turns import beside, odd_faces
 from heavycut.webs import made_web
+from papersamples import made_labels, random_paper
 from samples import (
-    STRANGE, as_number, as_pair, check_repeated, distances_between, most_weight, other_lengths, plane_web, random_turns,
-    random_web, ring_web, sample_webs, strange_places, top_number, whole_web, with_other, wrong_kinds,
+    STRANGE, as_number, as_pair, check_repeated, most_weight, other_lengths, plane_web, random_turns, random_web,
+    ring_web, sample_webs, strange_places, top_number, whole_web, with_other, wrong_kinds,
 )
 
 ONE = (1, 1)
@@ -26,36 +27,6 @@ TWO_TENTS = made_web(5, [(0, 1, (10, 1)), (0, 2, (10, 1)), (1, 2, (10, 1))] + [
     (point, top, ONE) for point in range(3) for top in (3, 4)
 ])
 TWO_TENTS_TURNS = ((1, 3, 2, 4), (2, 3, 0, 4), (0, 3, 1, 4), (0, 1, 2), (2, 1, 0))
-
-
-def made_labels(web, turns, beyond):
-    """Answer the rows of the odd faces with their distances, and what stands beyond where no ties lead."""
-    table = distances_between(web, turns)
-    return tuple([tuple([as_pair(beyond if far is None else far) for far in table[face]])
-                  for face in odd_faces(web, turns)])
-
-
-def random_paper(web, turns, seed):
-    """Answer a face paper with random groups and prices of any sign, some of them as great as the labels allow."""
-    chance = Random(seed)
-    odd = odd_faces(web, turns)
-    many = len(odd)
-    labels = made_labels(web, turns, chance.choice((-3, 0, 100)))
-    groups = []
-    for k in range(chance.randrange(3) if many >= 4 else 0):
-        some = sorted(chance.sample(range(many), chance.choice([n for n in range(3, many + 1) if n % 2 == 1])))
-        groups.append((tuple(some), as_pair(Fraction(chance.randrange(1, 9), 4))))
-    prices = [Fraction(chance.randrange(-9, 9), 2) for face in odd]
-    for one in range(many):
-        limits = []
-        for other in range(many):
-            if other != one:
-                shares = sum([as_number(share) for some, share in groups if (one in some) != (other in some)], Fraction(0))
-                label = labels[min(one, other)][odd[max(one, other)]]
-                limits.append(as_number(label) - shares - prices[other])
-        if limits:
-            prices[one] = min(limits)
-    return ("faces", turns, labels, tuple([as_pair(price) for price in prices]), tuple(groups))
 
 
 class FacePapers(unittest.TestCase):

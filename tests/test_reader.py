@@ -1,16 +1,15 @@
 """Tests of case papers [13], of the reader of all kinds [11] and of what meets [16]."""
 
 import unittest
-from random import Random
 
 from heavycut.errors import NoWishes
 from heavycut.reader import bound_of, meets
 from heavycut.ringpapers import ring_bound
 from heavycut.webs import made_web
+from papersamples import all_parted, random_cases
 from samples import (
-    DEEP_LIST, DEEP_TUPLE, STRANGE, all_sides, as_number, as_pair, check_repeated, kept_sides, kept_wishes, lost_by,
-    most_weight, number_of, odd_rounds, other_lengths, packed_rows, random_web, ring_web, sample_webs, strange_places,
-    top_number, whole_web, wrong_kinds,
+    DEEP_LIST, DEEP_TUPLE, STRANGE, all_sides, as_number, as_pair, check_repeated, kept_sides, kept_wishes, most_weight,
+    number_of, odd_rounds, other_lengths, packed_rows, ring_web, sample_webs, strange_places, whole_web, wrong_kinds,
 )
 
 ONE = (1, 1)
@@ -18,38 +17,6 @@ NO_ROWS = ("rings", ())
 TRIANGLE = ring_web(3, [0, 1, 2])
 RING = ("rings", (((0, 1, 2), ONE),))
 FACES = ("faces", ((1, 2), (0, 2), (0, 1)), (((0, 1), ONE), (ONE, (0, 1))), ((1, 2), (1, 2)), ())
-
-
-def lost_alone(web, side):
-    """Answer the ring paper of all ties that a side loses, for wishes that only this side keeps."""
-    lost = [tie for tie in lost_by(web, side) if web[1][tie][2][0] != 0]
-    return ("rings", tuple([((tie,), as_pair(abs(as_number(web[1][tie][2])))) for tie in lost]))
-
-
-def all_parted(web, wishes):
-    """Answer a paper that parts all groups, and whose bound so is the most that a side weighs."""
-    sides = kept_sides(web[0], wishes)
-    if len(sides) == 1:
-        return lost_alone(web, sides[0])
-    for other in range(1, web[0]):
-        if len({side[other] for side in sides}) > 1:
-            wish = (0, other)
-            return ("cases", *wish, all_parted(web, wishes + [wish + (0,)]), all_parted(web, wishes + [wish + (1,)]))
-    raise AssertionError("two sides are equal")
-
-
-def random_cases(web, wishes, seed, depth):
-    """Answer a paper of some cases with some rings at their ends, and its bound."""
-    chance = Random(seed)
-    sides = kept_sides(web[0], wishes)
-    pairs = [(a, b) for a in range(web[0]) for b in range(a + 1, web[0]) if len({side[a] ^ side[b] for side in sides}) > 1]
-    if depth == 0 or not pairs:
-        rows = packed_rows(web, odd_rounds(web, wishes), seed)
-        return ("rings", rows), top_number(web) - sum([as_number(share) for ring, share in rows])
-    one, other = chance.choice(pairs)
-    together, bound = random_cases(web, wishes + [(one, other, 0)], 2 * seed + 1, depth - 1)
-    apart, other_bound = random_cases(web, wishes + [(one, other, 1)], 2 * seed + 2, chance.randrange(depth))
-    return ("cases", one, other, together, apart), max(bound, other_bound)
 
 
 class Papers(unittest.TestCase):
